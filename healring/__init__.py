@@ -1,0 +1,1 @@
+"""Healring: machines in a ring that heal."""
