@@ -18,14 +18,25 @@ def check_many(many):
         raise NoNumbers("many is not from 2 to 100")
 
 
+def check_machines(machines):
+    """Refuse a count of machines that is out of bounds."""
+    if machines < FEWEST_MACHINES or machines > MOST_MACHINES:
+        raise NoRing("a ring has from 2 to 12 machines")
+
+
 def check_ring(ring, many):
     """Refuse a count of numbers that is out of bounds, else what is no ring of such numbers."""
     check_many(many)
-    if len(ring) < FEWEST_MACHINES or len(ring) > MOST_MACHINES:
-        raise NoRing("a ring has from 2 to 12 numbers")
+    check_machines(len(ring))
     for number in ring:
         if number < 0 or number >= many:
             raise NoRing("a number of the ring is below 0 or not below many")
+
+
+def check_machine(machine, machines):
+    """Refuse a machine that is none of so many."""
+    if machine < 0 or machine >= machines:
+        raise NoMachine("the ring has no such machine")
 
 
 def may_step(ring, machine):
@@ -45,8 +56,7 @@ def taken(ring, many, machine):
 
 def after(ring, many, machine):
     """Tell the ring after one step, refusing a step that can't be; the ring was checked before."""
-    if machine < 0 or machine >= len(ring):
-        raise NoMachine("the ring has no such machine")
+    check_machine(machine, len(ring))
     if not may_step(ring, machine):
         raise NotNow("the machine may not step now")
     return (*ring[:machine], taken(ring, many, machine), *ring[machine + 1:])

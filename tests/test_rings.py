@@ -1,79 +1,12 @@
-"""Points [1] to [4], and the section healring/rings.py of the interface."""
+"""Points [1], [3] and [4], and the section healring/rings.py of the interface."""
 
 import inspect
-import itertools
 import unittest
 
+from common import FAR, RefusalTest, small_rings
 from healring import rings
-from healring.errors import HealError, NoMachine, NoNumbers, NoRing, NotNow
+from healring.errors import NoMachine, NotNow
 from healring.rings import able, gone, stepped
-
-# Longer than Python writes out as a string: no refusal may trip over it.
-FAR = 10 ** 5000
-
-# Every way in which a ring and many are handed in, also with machines and
-# orders that would be refused if the ring and many were good.
-WAYS_IN = (
-    ("able", lambda ring, many: able(ring, many)),
-    ("stepped", lambda ring, many: stepped(ring, many, 0)),
-    ("stepped, no such machine", lambda ring, many: stepped(ring, many, -1)),
-    ("stepped, far beyond", lambda ring, many: stepped(ring, many, FAR)),
-    ("gone, empty order", lambda ring, many: gone(ring, many, [])),
-    ("gone", lambda ring, many: gone(ring, many, [0])),
-    ("gone, no such machine", lambda ring, many: gone(ring, many, [-1])),
-)
-
-WRONG_MANY = (1, 0, -1, -2, -100, 101, 102, 1000, FAR, -FAR)
-
-GOOD_RINGS = (
-    ((0, 0), 2),
-    ((1, 1), 2),
-    ((0, 1), 2),
-    ((99, 99), 100),
-    ((0, 99), 100),
-    ((0,) * 12, 2),
-    ((99,) * 12, 100),
-    (tuple(range(12)), 12),
-    (tuple(range(88, 100)), 100),
-)
-
-WRONG_RINGS = (
-    ((), 2),
-    ((), 100),
-    ((0,), 2),
-    ((99,), 100),
-    ((0,) * 13, 2),
-    ((99,) * 13, 100),
-    ((0,) * 1000, 3),
-    ((-1, 0), 2),
-    ((0, -1), 2),
-    ((0, -1, 0), 3),
-    ((2, 0), 2),
-    ((0, 2), 2),
-    ((0, 3, 0), 3),
-    ((100, 0), 100),
-    ((0, 100), 100),
-    ((0, 0, 101), 100),
-    ((0,) * 11 + (100,), 100),
-    ((0,) * 11 + (-1,), 100),
-    ((0,) * 5 + (2,) + (0,) * 6, 2),
-    ((0, FAR), 100),
-    ((-FAR, 0), 100),
-)
-
-# Many is wrong here, and the ring would be refused under a good many, too.
-BOTH_WRONG = (
-    ((), 1),
-    ((0,), 0),
-    ((0,) * 13, 101),
-    ((-1, 0), 1),
-    ((1, 0), 1),
-    ((0, 0), 0),
-    ((0, 0), -1),
-    ((101, 0), 101),
-    ((200, 0), 101),
-    ((5,) * 13, -5),
-)
 
 # ring, many, the machines that may step, and the ring behind a step of each of them
 STEPS = (
@@ -99,56 +32,6 @@ STEPS = (
     ((99,) * 12, 100, [0], [(0,) + (99,) * 11]),
     ((0,) * 11 + (99,), 100, [11], [(0,) * 12]),
 )
-
-
-def small_rings():
-    """Every ring of 2 to 4 machines and 2 to 4 numbers, with many."""
-    for machines in range(2, 5):
-        for many in range(2, 5):
-            for ring in itertools.product(range(many), repeat=machines):
-                yield ring, many
-
-
-class RefusalTest(unittest.TestCase):
-    def refused(self, kind, call, *told):
-        """Check that a call is refused, and by this very class."""
-        with self.assertRaises(HealError) as caught:
-            call(*told)
-        self.assertIs(type(caught.exception), kind)
-
-
-class HandedInTest(RefusalTest):
-    """Point [2]."""
-
-    def test_a_good_ring_is_taken(self):
-        for ring, many in GOOD_RINGS:
-            with self.subTest(ring=ring, many=many):
-                machine = able(ring, many)[0]
-                self.assertEqual(len(stepped(ring, many, machine)), len(ring))
-                self.assertEqual(gone(ring, many, []), [ring])
-
-    def test_many_from_2_to_100_and_machines_from_2_to_12_are_taken(self):
-        for many in range(2, 101):
-            for machines in range(2, 13):
-                self.assertEqual(able((many - 1,) * machines, many), [0])
-
-    def test_a_wrong_many_is_refused(self):
-        for many in WRONG_MANY:
-            for name, call in WAYS_IN:
-                with self.subTest(name=name, many=many.bit_length()):
-                    self.refused(NoNumbers, call, (0, 0), many)
-
-    def test_a_wrong_ring_is_refused(self):
-        for at, (ring, many) in enumerate(WRONG_RINGS):
-            for name, call in WAYS_IN:
-                with self.subTest(name=name, at=at):
-                    self.refused(NoRing, call, ring, many)
-
-    def test_many_is_looked_at_before_the_ring(self):
-        for ring, many in BOTH_WRONG:
-            for name, call in WAYS_IN:
-                with self.subTest(name=name, ring=ring, many=many):
-                    self.refused(NoNumbers, call, ring, many)
 
 
 class AbleTest(unittest.TestCase):
@@ -252,7 +135,7 @@ class GoneTest(RefusalTest):
     """Point [4]: what an order makes of a ring."""
 
     def test_an_empty_order_tells_the_first_ring_alone(self):
-        for ring, many in GOOD_RINGS:
+        for ring, many, _, _ in STEPS:
             self.assertEqual(gone(ring, many, []), [ring])
 
     def test_an_order_of_one_step(self):
